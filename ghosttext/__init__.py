@@ -1,0 +1,1 @@
+"""Ghosttext: an input field that suggests the word that was used last."""

@@ -1,0 +1,111 @@
+"""Books, wrong values and checks that several test files use."""
+
+import random
+
+B = ["car", "cat", "cow", "dog"]
+C = ["cat", "cow", "dog", "car"]
+
+LONG_WORD = "abcdefghijkl"
+TOO_LONG_WORD = LONG_WORD + "m"
+
+
+class Text(str):
+    """A string of another class."""
+
+
+class Row(list):
+    """A list of another class, which is not exactly a list."""
+
+
+NOT_STRINGS = [None, True, False, 0, 1, -7, 10 ** 30, 2.5, b"car", ["car"], ("car",), {"car"}, {"car": 1}, [], object()]
+NOT_TEXTS = NOT_STRINGS + [
+    TOO_LONG_WORD, "a" * 4000, "Car", "caR", "CAR", "car1", "1", "c r", " ", " car", "car ", "car\n", "\n", "c-r",
+    "car+", "+", "-", "caf\u00e9", "\u00df", "\u00aa", "\u0430", "ca\u0308",
+]
+NOT_WORDS = NOT_TEXTS + [""]
+
+# Each list holds a value that is no word, so it is neither a book nor a history.
+LISTS_WITHOUT_WORDS_ONLY = [[value] for value in NOT_WORDS] + [["cow", value, "dog"] for value in NOT_WORDS]
+NOT_WORD_LISTS = LISTS_WITHOUT_WORDS_ONLY + [
+    None, True, False, 0, 1, 10 ** 30, 2.5, "", "car", "car cat", b"car", (), ("car",), ("car", "cat"), {"car"},
+    set(), {}, {"car": 1}, [["car"]], [["car", "cat"]], [[]], [["car"], "cat"], [[[["car"]]]], [("car",)],
+    range(0), iter(["car"]), object(), Row(["car"]), Row(),
+]
+CLASHING_LISTS = [
+    ["in", "into"], ["into", "in"], ["car", "i", "in"], ["a", LONG_WORD], [LONG_WORD, "dog", LONG_WORD[:11]],
+    ["up", "in", "go", "inn", "ups"],
+]
+NOT_HISTORIES = NOT_WORD_LISTS + CLASHING_LISTS + [["go", "in", "go", "into"]]
+NOT_BOOKS = NOT_WORD_LISTS + CLASHING_LISTS + [
+    ["car", "car"], ["car", "cat", "car"], ["cat", "car", "car", "cow"], [LONG_WORD, "dog", LONG_WORD],
+]
+
+
+def full_book(many=120):
+    """Return many words of 12 letters that all have a long beginning in common."""
+    letters = LONG_WORD
+    rows = ["abcabcabc" + one + two + three for one in letters for two in letters for three in letters]
+    return rows[7:7 + 13 * many:13]
+
+
+def chain_book():
+    """Return words of 1 to 12 letters in which each length has its own branching."""
+    return ["a" * length + "b" for length in range(12)] + ["a" * 12]
+
+
+def random_books(seed, many):
+    """Return many books in which the words have various lengths and beginnings."""
+    source = random.Random(seed)
+    return [random_book(source) for _ in range(many)]
+
+
+def random_book(source):
+    letters = "abcdefghijklmnopqrstuvwxyz"[:source.choice([2, 3, 5, 26])]
+    longest = source.choice([3, 6, 12])
+    book = []
+    for _ in range(source.choice([0, 1, 3, 10, 40, 150])):
+        word = "".join(source.choice(letters) for _ in range(source.randint(1, longest)))
+        if len(book) < 120 and not any(other.startswith(word) or word.startswith(other) for other in book):
+            book.append(word)
+    return book
+
+
+def new_word(source, book):
+    """Return a word that may be added to the book, or None."""
+    for _ in range(50):
+        word = "".join(source.choice("abcz") for _ in range(source.randint(1, 12)))
+        if not any(other.startswith(word) or word.startswith(other) for other in book):
+            return word
+    return None
+
+
+def common_length(word, other):
+    """Return the length of the longest common beginning."""
+    length = 0
+    while length < min(len(word), len(other)) and word[length] == other[length]:
+        length += 1
+    return length
+
+
+def raised_by(function, *args, **named):
+    """Return the error of a call, after checking that the call changed nothing."""
+    before = repr((args, named))
+    try:
+        drawn(function(*args, **named))
+    except ValueError as error:
+        assert repr((args, named)) == before, "the call changed an argument"
+        return error
+    raise AssertionError(f"{function.__name__} raised no error for {before}")
+
+
+def answer_of(function, *args, **named):
+    """Return what a call returns, after checking that the call changed nothing."""
+    before = repr((args, named))
+    result = drawn(function(*args, **named))
+    assert repr((args, named)) == before, "the call changed an argument"
+    return result
+
+
+def drawn(result):
+    """Return a result, as a list if it is yielded."""
+    return list(result) if hasattr(result, "__next__") else result

@@ -1,0 +1,87 @@
+"""The interface's names and arguments, and the measures of the language rules."""
+
+import ast
+import importlib
+import inspect
+import pathlib
+import unittest
+
+LIBRARY = ["ghosttext", "heapq", "math", "itertools", "collections", "__future__"]
+FOLDER = pathlib.Path(__file__).resolve().parent.parent / "ghosttext"
+
+INTERFACE = {
+    "words": {
+        "is_word": "(value)", "is_book": "(value)", "is_history": "(value)", "clashing_pair": "(value)",
+        "after_uses": "(book, *used)", "book_after": "(history)",
+    },
+    "suggestions": {
+        "suggestion": "(book, text)", "blocker": "(book, word)", "keys_for": "(book, word)",
+        "key_text": "(book, word)", "steps": "(book, word)", "key_counts": "(book)",
+    },
+}
+
+
+def package_files():
+    return sorted(path for path in FOLDER.rglob("*") if path.is_file() and "__pycache__" not in path.parts)
+
+
+def trees():
+    return [(path, ast.parse(path.read_text(encoding="utf-8"))) for path in package_files()]
+
+
+class Interface(unittest.TestCase):
+    def test_names_and_arguments(self):
+        for file, functions in INTERFACE.items():
+            module = importlib.import_module("ghosttext." + file)
+            for name, arguments in functions.items():
+                with self.subTest(name):
+                    function = getattr(module, name)
+                    self.assertTrue(inspect.isfunction(function))
+                    self.assertEqual(function.__module__, "ghosttext." + file)
+                    self.assertEqual(str(inspect.signature(function)), arguments)
+
+    def test_constructors_take_their_value(self):
+        errors = importlib.import_module("ghosttext.errors")
+        self.assertEqual(str(inspect.signature(errors.PrefixError)), "(pair)")
+        self.assertEqual(str(inspect.signature(errors.ImpossibleKeysError)), "(beginning)")
+
+    def test_steps_yields(self):
+        self.assertTrue(inspect.isgeneratorfunction(importlib.import_module("ghosttext.suggestions").steps))
+
+
+class LanguageRules(unittest.TestCase):
+    def test_files(self):
+        self.assertIn("__init__.py", [path.name for path in package_files()])
+        for path in package_files():
+            with self.subTest(path.name):
+                self.assertEqual(path.suffix, ".py")
+                lines = path.read_bytes().decode("ascii").split("\n")
+                self.assertLessEqual(len(lines), 399)
+                self.assertTrue(all(len(line) <= 120 and (line + " ").isprintable() for line in lines))
+
+    def test_functions_have_at_most_40_lines(self):
+        for path, tree in trees():
+            for node in ast.walk(tree):
+                if isinstance(node, ast.FunctionDef):
+                    self.assertLessEqual(node.end_lineno - node.lineno + 1, 40, f"{path.name}: {node.name}")
+
+    def test_imports(self):
+        for path, tree in trees():
+            imports = [node for node in ast.walk(tree) if isinstance(node, (ast.Import, ast.ImportFrom))]
+            for node in imports:
+                self.assertIsInstance(node, ast.ImportFrom, path.name)
+                self.assertEqual(node.level, 0, path.name)
+                self.assertIn(node.module.split(".")[0], LIBRARY, path.name)
+                self.assertIn(node, tree.body, path.name)
+
+    def test_what_no_file_contains(self):
+        barred = (ast.AsyncFunctionDef, ast.AsyncFor, ast.AsyncWith, ast.Await, ast.Div)
+        for path, tree in trees():
+            for node in ast.walk(tree):
+                self.assertNotIsInstance(node, barred, path.name)
+                if isinstance(node, ast.Constant):
+                    self.assertNotIsInstance(node.value, (float, complex), path.name)
+
+
+if __name__ == "__main__":
+    unittest.main()
