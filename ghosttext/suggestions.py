@@ -1,7 +1,7 @@
 """What is suggested, and how many keys a word needs and why."""
 
-from ghosttext.errors import InvalidTextError, UnknownWordError
-from ghosttext.words import check_book, check_no_clash, check_word, is_text
+from ghosttext.errors import InvalidTextError
+from ghosttext.words import check_book, check_known_word, check_no_clash, check_word, is_text
 
 
 def suggestion(book, text):
@@ -43,9 +43,7 @@ def key_counts(book):
 def blocker(book, word):
     """Return the word that is suggested last before the given one, or None."""
     check_book(book)
-    check_word(word)
-    if word not in book:
-        raise UnknownWordError("the word is not in the book")
+    check_known_word(book, word)
     typed = typed_letters(book, word)
     if typed == "":
         return None

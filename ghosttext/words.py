@@ -1,6 +1,6 @@
 """Words, books and histories, and what uses of words do to a book."""
 
-from ghosttext.errors import InvalidBookError, InvalidHistoryError, InvalidWordError, PrefixError
+from ghosttext.errors import InvalidBookError, InvalidHistoryError, InvalidWordError, PrefixError, UnknownWordError
 
 LETTERS = "abcdefghijklmnopqrstuvwxyz"
 MOST_LETTERS = 12
@@ -64,6 +64,13 @@ def check_word(value):
     """Raise InvalidWordError if the value is not a word."""
     if not is_word(value):
         raise InvalidWordError("a word is a string of 1 to 12 lowercase letters")
+
+
+def check_known_word(words, value):
+    """Raise InvalidWordError or UnknownWordError if the value is not one of the words."""
+    check_word(value)
+    if value not in words:
+        raise UnknownWordError("the word is not one of the known words")
 
 
 def check_book(value):

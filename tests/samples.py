@@ -1,5 +1,6 @@
 """Books, wrong values and checks that several test files use."""
 
+import itertools
 import random
 
 B = ["car", "cat", "cow", "dog"]
@@ -41,6 +42,17 @@ NOT_BOOKS = NOT_WORD_LISTS + CLASHING_LISTS + [
 ]
 
 
+NOT_INTEGERS = [None, True, False, "", "1", "0", 0.0, 1.0, 2.5, b"1", [], [1], (1,), {1}, {1: 1}, range(2), object()]
+
+# Small enough for a search over all orders.
+SMALL_SETS = [
+    [], ["a"], [LONG_WORD], ["a", "b"], ["car", "cat"], B, ["an", "at", "in", "it", "up"], ["e", "d", "c", "b", "a"],
+    ["xxb", "xxd", "xxa", "xxe", "xxc"], ["b", "ab", "aab", "aaab", "aaaab", "aaaaa"],
+    ["ab", "ba", "aa", "bb", "ca"], ["go", "up", "in"],
+    [LONG_WORD, LONG_WORD[:11] + "a", LONG_WORD[:6] + "a", "z"], ["zaa", "zab", "zba", "zbb", "y", "x"],
+]
+
+
 def full_book(many=120):
     """Return many words of 12 letters that all have a long beginning in common."""
     letters = LONG_WORD
@@ -68,6 +80,81 @@ def random_book(source):
         if len(book) < 120 and not any(other.startswith(word) or word.startswith(other) for other in book):
             book.append(word)
     return book
+
+
+def wide_book():
+    """Return words with 26 branches behind the empty text and behind some longer ones."""
+    letters = "zyxwvutsrqponmlkjihgfedcba"
+    others = [letter for letter in letters if letter not in "mq"]
+    return others + ["m" + letter for letter in letters] + ["qqqqqqqqqqq" + letter for letter in letters]
+
+
+def large_books():
+    """Return books of many words with long common beginnings or many branches behind one text."""
+    return [full_book(), chain_book(), chain_book()[::-1], wide_book(), full_book()[::-1]]
+
+
+def sets_for_search(seed, many):
+    """Return sets of at most six words that have many common beginnings."""
+    source = random.Random(seed)
+    rows = []
+    for _ in range(many):
+        words = []
+        for _ in range(source.randint(2, 12)):
+            word = "".join(source.choice("ab" if source.random() < 0.6 else "abc") for _ in range(source.randint(1, 5)))
+            if len(words) < 6 and not any(other.startswith(word) or word.startswith(other) for other in words):
+                words.append(word)
+        rows.append(words)
+    return SMALL_SETS + rows
+
+
+def orders_of(words):
+    """Return all books of these words."""
+    return [list(order) for order in itertools.permutations(words)]
+
+
+def slow_suggestion(book, text):
+    found = None
+    for word in book:
+        if word[:len(text)] == text:
+            found = word
+    return found
+
+
+def slow_steps(book, word):
+    """Type letters until the word is the suggestion, but at most to its end."""
+    rows = []
+    for letter in [""] + list(word):
+        text = rows[-1][0] + letter if rows else ""
+        rows.append((text, slow_suggestion(book, text)))
+        if rows[-1][1] == word:
+            break
+    return rows
+
+
+def slow_keys(book, word):
+    return len(slow_steps(book, word))
+
+
+def slow_branchings(words):
+    """Look for texts behind which several letters follow among the beginnings of the words."""
+    following = {}
+    for beginning in {word[:length] for word in words for length in range(1, len(word) + 1)}:
+        following.setdefault(beginning[:-1], set()).add(beginning[-1])
+    return sorted((text, "".join(sorted(letters))) for text, letters in following.items() if len(letters) >= 2)
+
+
+def slow_state(book):
+    return [(text, slow_suggestion(book, text)[len(text)]) for text, _ in slow_branchings(book)]
+
+
+def slow_play(book, uses):
+    """Return the numbers of keys of the uses, and the book after them."""
+    numbers = []
+    for word in uses:
+        numbers.append(slow_keys(book, word))
+        book = [other for other in book if other != word] + [word]
+    return numbers, book
 
 
 def new_word(source, book):

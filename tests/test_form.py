@@ -18,6 +18,22 @@ INTERFACE = {
         "suggestion": "(book, text)", "blocker": "(book, word)", "keys_for": "(book, word)",
         "key_text": "(book, word)", "steps": "(book, word)", "key_counts": "(book)",
     },
+    "branches": {
+        "branchings": "(words)", "constant_list": "(words)", "state_of": "(book)", "are_alike": "(book, other)",
+        "word_that_differs": "(book, other)",
+    },
+    "histories": {
+        "keys_of_uses": "(history, *, start=None)", "steady_keys": "(words)",
+        "total_keys": "(history, *, start=None)", "saved_keys": "(history, *, start=None)",
+        "keys_of_rounds": "(history, rounds)", "obstacle": "(history, index)", "round_keys": "(history)",
+    },
+    "states": {
+        "is_state": "(words, value)", "count_states": "(words)", "state_rank": "(words, state)",
+        "nth_state": "(words, index)", "state_after": "(words, state, word)", "book_of_state": "(words, state)",
+    },
+    "costs": {
+        "possible_keys": "(words, word)", "count_books_with": "(words, word, keys)", "state_from_keys": "(words, keys)",
+    },
 }
 
 

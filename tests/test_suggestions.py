@@ -9,29 +9,10 @@ from ghosttext.suggestions import blocker, key_counts, key_text, keys_for, steps
 from ghosttext.words import after_uses, clashing_pair
 from tests.samples import (
     B, C, LONG_WORD, NOT_BOOKS, NOT_TEXTS, NOT_WORDS, TOO_LONG_WORD, answer_of, chain_book, common_length, full_book,
-    new_word, raised_by, random_books,
+    new_word, raised_by, random_books, slow_steps, slow_suggestion,
 )
 
 ENTRIES = [keys_for, key_text, steps]
-
-
-def slow_suggestion(book, text):
-    found = None
-    for word in book:
-        if word[:len(text)] == text:
-            found = word
-    return found
-
-
-def slow_steps(book, word):
-    """Type letters until the word is the suggestion, but at most to its end."""
-    rows = []
-    for letter in [""] + list(word):
-        text = rows[-1][0] + letter if rows else ""
-        rows.append((text, slow_suggestion(book, text)))
-        if rows[-1][1] == word:
-            break
-    return rows
 
 
 def slow_blocker(book, word):
