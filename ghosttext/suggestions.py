@@ -44,10 +44,7 @@ def blocker(book, word):
     """Return the word that is suggested last before the given one, or None."""
     check_book(book)
     check_known_word(book, word)
-    typed = typed_letters(book, word)
-    if typed == "":
-        return None
-    return last_with(book, typed[:-1])
+    return find_blocker(book, word)
 
 
 def last_with(book, text):
@@ -69,6 +66,14 @@ def typed_letters(book, word):
 def count_keys(book, word):
     """Return the number of keys for a word that fits into the book."""
     return len(typed_letters(book, word)) + 1
+
+
+def find_blocker(book, word):
+    """Return the word that is suggested last before a word of a valid book, or None."""
+    typed = typed_letters(book, word)
+    if typed == "":
+        return None
+    return last_with(book, typed[:-1])
 
 
 def _check_entry(book, word):

@@ -1,6 +1,7 @@
 """Books, wrong values and checks that several test files use."""
 
 import itertools
+import math
 import random
 
 B = ["car", "cat", "cow", "dog"]
@@ -196,3 +197,25 @@ def answer_of(function, *args, **named):
 def drawn(result):
     """Return a result, as a list if it is yielded."""
     return list(result) if hasattr(result, "__next__") else result
+
+
+def caterpillar_book(many=120):
+    """Return words of which each but the last one may stand anywhere before the last one in alike books."""
+    return [length * "z" + letter for length in range(12) for letter in "tsrqponmlkjihgfedcbayxwvu"][:many]
+
+
+def count_by_shuffles(order):
+    """Return the number of lists of these words in which the same words come last among those with each beginning."""
+    if len(order) < 2:
+        return 1
+    length = min(common_length(order[0], other) for other in order)
+    groups = {}
+    for word in order:
+        groups.setdefault(word[length], []).append(word)
+    # The last word of all stays in its group; the other places are shared out.
+    free = {letter: len(group) for letter, group in groups.items()}
+    free[order[-1][length]] -= 1
+    many = math.factorial(len(order) - 1)
+    for letter, group in groups.items():
+        many = many // math.factorial(free[letter]) * count_by_shuffles(group)
+    return many

@@ -34,7 +34,25 @@ INTERFACE = {
     "costs": {
         "possible_keys": "(words, word)", "count_books_with": "(words, word, keys)", "state_from_keys": "(words, keys)",
     },
+    "orders": {
+        "count_alike": "(book)", "alike_rank": "(book)", "nth_alike": "(book, index)",
+    },
+    "moves": {
+        "fewest_uses": "(book, goal)", "count_shortest": "(book, goal)", "shortest_rank": "(book, goal, value)",
+        "needed_words": "(book, goal)", "nth_shortest": "(book, goal, index)", "is_shortest": "(book, goal, value)",
+    },
+    "text": {
+        "format_words": "(history)", "format_state": "(words, state)", "parse_words": "(text)",
+        "parse_state": "(words, text)",
+    },
 }
+
+CLASSES = {"Field": "()", "SmallField": "(most=10)", "CountingField": "()", "SmallCountingField": "(most=10)"}
+METHODS = {
+    "is_key": "(value)", "read": "(text)", "press": "(self, keys)", "tried": "(self, *presses)", "report": "(self)",
+    "forget": "(self, word)", "undo": "(self)", "copy": "(self)", "__eq__": "(self, other)", "__len__": "(self)",
+}
+PROPERTIES = ["book", "text", "shown", "entered", "pressed"]
 
 
 def package_files():
@@ -60,6 +78,31 @@ class Interface(unittest.TestCase):
         errors = importlib.import_module("ghosttext.errors")
         self.assertEqual(str(inspect.signature(errors.PrefixError)), "(pair)")
         self.assertEqual(str(inspect.signature(errors.ImpossibleKeysError)), "(beginning)")
+
+    def test_classes(self):
+        module = importlib.import_module("ghosttext.field")
+        for name, arguments in CLASSES.items():
+            with self.subTest(name):
+                kind = getattr(module, name)
+                self.assertEqual([kind.__module__, str(inspect.signature(kind))], ["ghosttext.field", arguments])
+
+    def test_each_class_defines_its_methods_itself(self):
+        module = importlib.import_module("ghosttext.field")
+        for name in CLASSES:
+            kind = getattr(module, name)
+            for method, arguments in METHODS.items():
+                with self.subTest(name=name, method=method):
+                    self.assertIn(method, vars(kind))
+                    self.assertEqual(str(inspect.signature(getattr(kind, method))), arguments)
+            self.assertIs(type(vars(kind)["is_key"]), staticmethod)
+            self.assertIs(type(vars(kind)["read"]), classmethod)
+
+    def test_each_class_defines_its_properties_itself(self):
+        module = importlib.import_module("ghosttext.field")
+        for name in CLASSES:
+            names = PROPERTIES + ["most"] * ("Small" in name) + ["counts"] * ("Counting" in name)
+            found = [key for key, value in vars(getattr(module, name)).items() if isinstance(value, property)]
+            self.assertEqual(sorted(found), sorted(names))
 
     def test_steps_yields(self):
         self.assertTrue(inspect.isgeneratorfunction(importlib.import_module("ghosttext.suggestions").steps))
